@@ -1,0 +1,73 @@
+"""The names, the places and the parameters of the interface, and the form of the package."""
+
+import ast
+import inspect
+import pathlib
+import unittest
+
+from opendeeds import books, texts
+
+FUNCTIONS = {
+    books: {
+        "is_book": ["thing"],
+        "may": ["book", "done"],
+        "is_state": ["book", "thing"],
+        "states": ["book"],
+        "state_counts": ["book"],
+    },
+    texts: {"write_book": ["book"], "read_book": ["text"]},
+}
+
+# The modules of Python itself of which the language lets some names be imported.
+LIBRARY = ("__future__", "collections", "heapq", "itertools", "math")
+
+PACKAGE = pathlib.Path(books.__file__).parent
+
+
+def package_files():
+    """The files of the package, without what Python itself puts there."""
+    return [path for path in sorted(PACKAGE.rglob("*")) if "__pycache__" not in path.parts]
+
+
+class Interface(unittest.TestCase):
+    def test_functions_and_their_parameters(self):
+        for module, functions in FUNCTIONS.items():
+            for name, parameters in functions.items():
+                with self.subTest(name):
+                    function = getattr(module, name)
+                    self.assertTrue(inspect.isfunction(function))
+                    self.assertEqual(function.__module__, module.__name__)
+                    self.assertEqual(list(inspect.signature(function).parameters), parameters)
+
+
+class Form(unittest.TestCase):
+    def test_only_files_of_python(self):
+        self.assertIn(PACKAGE / "__init__.py", package_files())
+        for path in package_files():
+            self.assertTrue(path.is_file() and path.suffix == ".py", path)
+
+    def test_signs_and_sizes(self):
+        for path in package_files():
+            text = path.read_text(encoding="ascii")
+            lines = text.split("\n")
+            self.assertLessEqual(len(lines), 400, path)
+            self.assertLessEqual(max(len(line) for line in lines), 120, path)
+            self.assertFalse(set(text) - {"\n"} - {chr(sign) for sign in range(32, 127)}, path)
+
+    def test_functions_are_short(self):
+        for path in package_files():
+            for node in ast.walk(ast.parse(path.read_text())):
+                if isinstance(node, ast.FunctionDef):
+                    self.assertLessEqual(node.end_lineno - node.lineno + 1, 40, node.name)
+
+    def test_imports_are_of_the_package(self):
+        for path in package_files():
+            for node in ast.walk(ast.parse(path.read_text())):
+                self.assertNotIsInstance(node, ast.Import, path)
+                if isinstance(node, ast.ImportFrom):
+                    self.assertEqual(node.level, 0, path)
+                    self.assertTrue(node.module in LIBRARY or node.module.startswith("opendeeds."))
+
+
+if __name__ == "__main__":
+    unittest.main()

@@ -1,0 +1,18 @@
+"""The examples of README.md."""
+
+import doctest
+import pathlib
+import unittest
+
+README = pathlib.Path(__file__).parent.parent / "README.md"
+
+
+class Readme(unittest.TestCase):
+    def test_examples(self):
+        found = doctest.testfile(str(README), module_relative=False)
+        self.assertEqual(found.failed, 0)
+        self.assertGreater(found.attempted, 0)
+
+
+if __name__ == "__main__":
+    unittest.main()
