@@ -1,8 +1,9 @@
 """Books of lots: what they are, what may be done, and which states they have."""
 
-from opendeeds.errors import BadBook, BadDone
+from opendeeds.errors import BadBook, BadDone, BadState
 from opendeeds.kinds import is_deed_set
-from opendeeds.masks import deeds_of, greatest_within, lot_masks, mask_of, next_deeds, state_layers
+from opendeeds.masks import deeds_of, greatest_within, lot_masks, mask_of
+from opendeeds.masks import next_deeds, state_layers, state_masks
 
 MOST_DEEDS = 8
 MOST_LOTS = 40
@@ -63,11 +64,16 @@ def is_state(book, thing):
     return greatest_within(lot_masks(book), wanted) == wanted
 
 
+def check_state(book, state):
+    """Raise BadState for what is no state of the book."""
+    if not is_state(book, state):
+        raise BadState("this is no state of the book")
+
+
 def states(book):
     """The ascending list of all states."""
     check_book(book)
-    layers = state_layers(lot_masks(book))
-    return sorted([deeds_of(state) for layer in layers for state in layer])
+    return sorted([deeds_of(state) for state in state_masks(lot_masks(book))])
 
 
 def state_counts(book):

@@ -5,6 +5,8 @@ things that nobody has looked at could take for ever, or run foreign code.
 They ask for type(thing), since isinstance lets bools and posing objects pass.
 """
 
+from opendeeds.errors import BadNumber
+
 
 def is_integer(thing):
     """Whether thing is an integer; True and False are none."""
@@ -21,3 +23,9 @@ def is_deed_set(thing, count):
             return False
         last = deed
     return True
+
+
+def check_number(thing, least, most):
+    """Raise BadNumber for what is no integer from least to most."""
+    if not is_integer(thing) or not least <= thing <= most:
+        raise BadNumber(f"this is no integer from {least} to {most}")

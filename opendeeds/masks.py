@@ -25,7 +25,10 @@ def lot_masks(book):
 
 def has_lot(lots, done):
     """Whether all deeds of one of the lots are done."""
-    return any([lot & done == lot for lot in lots])
+    for lot in lots:
+        if lot & done == lot:
+            return True
+    return False
 
 
 def next_deeds(masks, done):
@@ -42,6 +45,11 @@ def greatest_within(masks, wanted):
     return done
 
 
+def greatest_state(masks):
+    """The mask of the greatest state: of the deeds of reach."""
+    return greatest_within(masks, (1 << len(masks)) - 1)
+
+
 def next_layer(masks, layer):
     """The ascending list of the states that one deed more makes of those in the layer."""
     return sorted({done | (1 << deed) for done in layer for deed in next_deeds(masks, done)})
@@ -55,3 +63,8 @@ def state_layers(masks):
         layers.append(layer)
         layer = next_layer(masks, layer)
     return layers
+
+
+def state_masks(masks):
+    """All states of a book, each behind those with fewer deeds."""
+    return [state for layer in state_layers(masks) for state in layer]

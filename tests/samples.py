@@ -2,6 +2,7 @@
 
 import faulthandler
 import itertools
+import random
 import sys
 import unittest
 
@@ -11,6 +12,19 @@ EACH_OTHER = (((1,),), ((0,),))
 FREE = (((),),) * 8
 CHAIN = (((),),) + tuple(((deed - 1,),) for deed in range(1, 8))
 ONE = ((),)
+NO_LOTS = ((),) * 8
+
+# Barred are 3, 4 and 5, each of which waits for another of them or for 6, and 6, without lots.
+HALF_BARRED = (((),), ((0,), (3,)), ((),), ((4,), (5, 6)), ((3,),), ((0, 4), (6,)), (), ((1,), (2,)))
+
+# Books with so many full runs.
+RUNS_499 = (
+    ((2, 4), (5, 7)), ((3, 4),), ((),), ((4,),), ((),), ((2,),), ((1, 2),), ((),),
+)
+RUNS_500 = (((4,),), ((2, 5), (6,)), ((),), ((4,),), ((),), ((4,),), ((4,),))
+RUNS_501 = (
+    ((3,),), ((2, 6),), ((),), ((7,),), ((0,), (5,)), ((1, 7), (2, 7)), ((),), ((),),
+)
 
 
 def subsets(things):
@@ -27,6 +41,11 @@ def lots_of(deed, count):
 
 FORTY = (tuple(lots_of(0, 8)[:40]),) + ((),) * 7
 FORTY_ONE = (tuple(lots_of(0, 8)[:41]),) + ((),) * 7
+
+# The last deed has forty lots, of which the first, (), makes all others spare.
+FORTY_LAST = (((),),) * 7 + (tuple(lots_of(7, 8)[:40]),)
+# Here it has the thirty-five lots of three other deeds, none of which lies within another.
+THREE_OF_SEVEN = (((),),) * 7 + (tuple(itertools.combinations(range(7), 3)),)
 
 
 WRONG_BOOKS = {
@@ -113,6 +132,48 @@ def told_states(book):
                 found.add(after)
                 waiting.append(after)
     return sorted(found)
+
+
+def told_full_runs(book, run=()):
+    """The full runs that begin with a run, ascending, found by doing deeds until none may be done."""
+    ahead = told_may(book, run)
+    return [found for deed in ahead for found in told_full_runs(book, (*run, deed))] or [run]
+
+
+def told_runs(book):
+    """All runs: the beginnings of full runs."""
+    return sorted({run[:size] for run in told_full_runs(book) for size in range(len(run) + 1)})
+
+
+def told_reach(book):
+    """The deeds of reach: those of any state."""
+    return tuple(sorted({deed for state in told_states(book) for deed in state}))
+
+
+def told_ways(book, deed):
+    """The ways to a deed, as the document words it."""
+    having = [state for state in told_states(book) if deed in state]
+    return [way for way in having if not any(set(other) < set(way) for other in having)]
+
+
+def random_book(count, most_lots, chance):
+    """A book of count deeds, of few lots, most of few deeds."""
+    entries = []
+    for deed in range(count):
+        lots = lots_of(deed, count)
+        weights = [0.3 ** len(lot) for lot in lots]
+        many = chance.randint(0, most_lots)
+        entries.append(tuple(sorted(set(chance.choices(lots, weights, k=many)))))
+    return tuple(entries)
+
+
+def some_books(most=5):
+    """Books of one to so many deeds: all small ones, some of three deeds, few of more."""
+    chance = random.Random(11)
+    found = [*all_books(1), *all_books(2), *all_books(3)[::13], B, NEVER, EACH_OTHER, ONE]
+    for count in range(4, most + 1):
+        found += [random_book(count, 3, chance) for _ in range(40)]
+    return found
 
 
 def tower(levels, ground):
@@ -225,8 +286,48 @@ def wrong_books():
     return [*WRONG_BOOKS.values(), *no_tuples(), *TOWERS, *DEEP]
 
 
+def any_objects():
+    """Things of all kinds, deep ones and such with one part many times over among them."""
+    return [*no_tuples(), *TOWERS, *DEEP, (), (0,), ((),), (None,), (True,), (False, 1), ("0",)]
+
+
+def wrong_integers(least, most):
+    """Things that are no integer from least to most, of all kinds."""
+    near = [least - 1, most + 1, 10**29, -(10**29), (least,), [least], str(least), {least: least}]
+    return [
+        thing
+        for thing in [*near, *any_objects()]
+        if not (type(thing) is int and least <= thing <= most)
+    ]
+
+
+def is_one_of(thing, papers):
+    """Whether thing is one of these papers, also by the kind of each part; no foreign thing is asked."""
+    return any(same(thing, paper) for paper in papers)
+
+
+def same(thing, other):
+    """Whether two things are equal, also by the kind of each part."""
+    if type(thing) is not type(other):
+        return False
+    if type(thing) in (tuple, list):
+        return len(thing) == len(other) and all(same(*pair) for pair in zip(thing, other))
+    return type(thing) in (int, bool, str, type(None)) and thing == other
+
+
 class Soon(unittest.TestCase):
     """Tests whose calls answer soon: one that hangs, even within a comparison, ends the run."""
+
+    def refuses(self, error, function, *rest):
+        """The call raises just this error."""
+        with self.assertRaises(error) as caught:
+            function(*rest)
+        self.assertIs(type(caught.exception), error)
+
+    def gives(self, result, function, *rest):
+        """The call returns a thing like this one, also by the kind of each part."""
+        found = function(*rest)
+        self.assertTrue(same(found, result), (function.__name__, rest, found, result))
 
     def setUp(self):
         faulthandler.dump_traceback_later(120, exit=True, file=sys.__stderr__)

@@ -5,7 +5,7 @@ import inspect
 import pathlib
 import unittest
 
-from opendeeds import books, texts
+from opendeeds import books, least, runs, shutting, swaps, texts
 
 FUNCTIONS = {
     books: {
@@ -16,6 +16,46 @@ FUNCTIONS = {
         "state_counts": ["book"],
     },
     texts: {"write_book": ["book"], "read_book": ["text"]},
+    runs: {
+        "is_run": ["book", "thing"],
+        "reach": ["book"],
+        "barred": ["book"],
+        "bar_of": ["book", "deed"],
+        "bar_holds": ["book", "deed", "thing"],
+        "count_runs": ["book"],
+        "first_run": ["book"],
+        "runs": ["book"],
+        "run_at": ["book", "number"],
+        "number_of": ["book", "run"],
+        "runs_through": ["book", "state"],
+        "runs_ahead": ["book", "deed", "other"],
+    },
+    swaps: {
+        "swaps_of": ["book", "run"],
+        "swaps_between": ["book", "run", "other"],
+        "swaps_hold": ["book", "run", "other", "thing"],
+        "least_swaps": ["book", "run", "other"],
+        "goes_on": ["book", "state", "other"],
+    },
+    shutting: {
+        "is_shut": ["book", "thing"],
+        "shut_sets": ["book"],
+        "left_by": ["book", "deeds"],
+        "closure": ["book", "deeds"],
+        "brings": ["book", "deeds", "deed"],
+        "corners": ["book", "shut"],
+        "bare_sets": ["book"],
+        "needs": ["book", "deeds", "deed"],
+    },
+    least: {
+        "ways": ["book", "deed"],
+        "least_book": ["book"],
+        "are_alike": ["book", "other"],
+        "unlike_state": ["book", "other"],
+        "spare_lots": ["book"],
+        "book_of": ["count", "family"],
+        "family_fault": ["count", "family"],
+    },
 }
 
 # The modules of Python itself of which the language lets some names be imported.

@@ -1,0 +1,180 @@
+"""Promises [2] and [3] over all functions: how they are called, what they return, errors in order."""
+
+import copy
+import itertools
+
+from opendeeds import errors
+from opendeeds.errors import BadBook, BadDeed, BadFamily, BadNumber, BadRun, BadSet, BadShut, BadSizes
+from opendeeds.errors import BadState
+from opendeeds.least import are_alike, book_of, family_fault, least_book, spare_lots, unlike_state, ways
+from opendeeds.runs import bar_holds, bar_of, barred, count_runs, first_run, is_run, number_of
+from opendeeds.runs import reach, run_at, runs, runs_ahead, runs_through
+from opendeeds.shutting import bare_sets, brings, closure, corners, is_shut, left_by, needs, shut_sets
+from opendeeds.swaps import goes_on, least_swaps, swaps_between, swaps_hold, swaps_of
+from samples import B, NEVER, RUNS_501
+from samples import Soon, same, some_books, told_full_runs, told_runs, wrong_books
+
+SPARE = (((),), ((0,), (0, 2), (2,)), ((),))
+B_STATES = [(), (0,), (0, 1), (0, 1, 2), (0, 2), (1, 2), (2,)]
+
+# A function, its parameters with good arguments, what it returns for them, and for each parameter
+# but one for any object the error that tells of it.
+CASES = [
+    (is_run, {"book": B, "thing": (2, 1)}, True, [BadBook]),
+    (reach, {"book": NEVER}, (2,), [BadBook]),
+    (barred, {"book": NEVER}, (0, 1), [BadBook]),
+    (bar_of, {"book": B, "deed": 1}, None, [BadBook, BadDeed]),
+    (bar_of, {"book": ((),), "deed": 0}, (0,), [BadBook, BadDeed]),
+    (bar_holds, {"book": NEVER, "deed": 1, "thing": (0, 1)}, True, [BadBook, BadDeed]),
+    (count_runs, {"book": B}, 4, [BadBook]),
+    (first_run, {"book": B}, (0, 1, 2), [BadBook]),
+    (runs, {"book": B}, [(0, 1, 2), (0, 2, 1), (2, 0, 1), (2, 1, 0)], [BadBook]),
+    (run_at, {"book": B, "number": 2}, (2, 0, 1), [BadBook, BadNumber]),
+    (number_of, {"book": B, "run": (2, 0, 1)}, 2, [BadBook, BadRun]),
+    (runs_through, {"book": B, "state": (0,)}, 2, [BadBook, BadState]),
+    (runs_ahead, {"book": B, "deed": 0, "other": 1}, 3, [BadBook, BadDeed, BadDeed]),
+    (swaps_of, {"book": B, "run": (0, 2, 1)}, [0, 1], [BadBook, BadRun]),
+    (
+        swaps_between,
+        {"book": B, "run": (0, 1, 2), "other": (0, 2, 1)},
+        [1],
+        [BadBook, BadRun, BadRun],
+    ),
+    (
+        swaps_hold,
+        {"book": B, "run": (0, 1, 2), "other": (2, 1, 0), "thing": [1, 0, 1]},
+        True,
+        [BadBook, BadRun, BadRun],
+    ),
+    (
+        least_swaps,
+        {"book": B, "run": (0, 1, 2), "other": (2, 1, 0)},
+        3,
+        [BadBook, BadRun, BadRun],
+    ),
+    (goes_on, {"book": B, "state": (0,), "other": (1, 2)}, 1, [BadBook, BadState, BadState]),
+    (is_shut, {"book": B, "thing": (1, 2)}, True, [BadBook]),
+    (shut_sets, {"book": NEVER}, [(), (2,)], [BadBook]),
+    (left_by, {"book": B, "deeds": (1,)}, (0, 2), [BadBook, BadSet]),
+    (closure, {"book": B, "deeds": (0, 2)}, (0, 1, 2), [BadBook, BadSet]),
+    (brings, {"book": B, "deeds": (0, 2), "deed": 1}, True, [BadBook, BadSet, BadDeed]),
+    (corners, {"book": B, "shut": (0, 1, 2)}, (0, 2), [BadBook, BadShut]),
+    (bare_sets, {"book": NEVER}, [(), (2,)], [BadBook]),
+    (needs, {"book": B, "deeds": (0, 1, 2), "deed": 1}, [(0, 2), (1,)], [BadBook, BadSet, BadDeed]),
+    (ways, {"book": B, "deed": 1}, [(0, 1), (1, 2)], [BadBook, BadDeed]),
+    (least_book, {"book": SPARE}, B, [BadBook]),
+    (are_alike, {"book": B, "other": SPARE}, True, [BadBook, BadBook]),
+    (unlike_state, {"book": B, "other": NEVER}, (0,), [BadBook, BadBook]),
+    (spare_lots, {"book": SPARE}, [(1, (0, 2))], [BadBook]),
+    (book_of, {"count": 3, "family": B_STATES}, B, [BadNumber, BadFamily]),
+    (family_fault, {"count": 3, "family": [(), (0,), (1,)]}, ("union", (0,), (1,)), [BadNumber, BadFamily]),
+]
+
+# What is none of the things that any parameter takes.
+WRONG = [None, -1, True, "0", (0, 0), [None], (((),), (0,)), {}]
+
+
+class Calls(Soon):
+    def test_by_position(self):
+        for function, told, result, _ in CASES:
+            self.gives(result, function, *told.values())
+
+    def test_by_name_in_any_sequence(self):
+        for function, told, result, _ in CASES:
+            for names in itertools.permutations(told):
+                found = function(**{name: told[name] for name in names})
+                self.assertTrue(same(found, result), (function.__name__, names))
+
+    def test_by_position_and_then_by_name(self):
+        for function, told, result, _ in CASES:
+            first, *rest = told
+            found = function(told[first], **{name: told[name] for name in rest})
+            self.assertTrue(same(found, result), function.__name__)
+
+    def test_arguments_stay_as_they_were(self):
+        for function, told, _, _ in CASES:
+            before = copy.deepcopy(told)
+            function(*told.values())
+            self.assertTrue(same(list(told.values()), list(before.values())), function.__name__)
+
+    def test_lists_that_are_handed_in_are_not_kept(self):
+        family = list(B_STATES)
+        found = book_of(3, family)
+        family.clear()
+        self.assertEqual(found, B)
+        steps = [1, 0, 1]
+        self.assertTrue(swaps_hold(B, (0, 1, 2), (2, 1, 0), steps))
+        steps.append(1)
+        self.assertFalse(swaps_hold(B, (0, 1, 2), (2, 1, 0), steps))
+        self.assertEqual(steps, [1, 0, 1, 1])
+
+    def test_lists_that_are_returned_are_new(self):
+        for function, told, result, _ in CASES:
+            if type(result) is list:
+                found = function(*told.values())
+                again = function(*told.values())
+                self.assertIsNot(found, again)
+                found.clear()
+                self.gives(result, function, *told.values())
+                self.assertTrue(same(again, result))
+
+    def test_equal_calls_return_equal_results(self):
+        for function, told, result, _ in CASES:
+            for _ in range(2):
+                self.gives(result, function, *copy.deepcopy(list(told.values())))
+
+
+class Errors(Soon):
+    def test_a_wrong_book_ahead_of_all(self):
+        for function, told, _, named in CASES:
+            if named[0] is BadBook:
+                for thing in wrong_books():
+                    self.refuses(BadBook, function, thing, *list(told.values())[1:])
+                    self.refuses(BadBook, function, thing, *[None] * (len(told) - 1))
+
+    def test_a_wrong_book_in_second_place(self):
+        for function in (are_alike, unlike_state):
+            for thing in wrong_books():
+                self.refuses(BadBook, function, B, thing)
+
+    def test_the_first_wrong_argument(self):
+        for function, told, _, named in CASES:
+            right = list(told.values())
+            for at, error in enumerate(named):
+                for thing in WRONG:
+                    self.refuses(error, function, *right[:at], thing, *right[at + 1 :])
+                    for other in WRONG:
+                        behind = [other] * (len(right) - at - 1)
+                        self.refuses(error, function, *right[:at], thing, *behind)
+
+    def test_what_more_is_wanted_of_the_first_counts_ahead_of_the_second(self):
+        self.refuses(BadRun, swaps_between, B, (0, 1), None)
+        self.refuses(BadRun, swaps_hold, B, (0, 1), None, None)
+        self.refuses(BadSet, brings, NEVER, (0,), None)
+        self.refuses(BadSet, needs, NEVER, (0, 2), None)
+        self.refuses(BadDeed, bar_holds, B, 3, None)
+        self.refuses(BadSizes, are_alike, B, ((),))
+        self.refuses(BadNumber, book_of, 0, None)
+        self.refuses(BadNumber, family_fault, 9, None)
+
+    def test_too_many_comes_behind_all_others(self):
+        self.refuses(BadRun, least_swaps, RUNS_501, None, None)
+        self.refuses(BadRun, least_swaps, RUNS_501, first_run(RUNS_501), ())
+        self.refuses(errors.TooMany, least_swaps, RUNS_501, first_run(RUNS_501), first_run(RUNS_501))
+        self.refuses(errors.TooMany, runs, RUNS_501)
+
+
+class MainProperty(Soon):
+    def test_all_runs_that_go_on_as_long_as_they_can_do_the_same_deeds(self):
+        for book in some_books():
+            self.assertEqual({tuple(sorted(run)) for run in runs(book)}, {reach(book)})
+
+    def test_each_full_run_comes_of_each_other_one_by_exchanging_neighbours(self):
+        for book in some_books(4):
+            beginnings = set(told_runs(book))
+            for run, other in itertools.product(told_full_runs(book)[:12], repeat=2):
+                now = run
+                for index in swaps_between(book, run, other):
+                    now = (*now[:index], now[index + 1], now[index], *now[index + 2 :])
+                    self.assertTrue(all(now[:size] in beginnings for size in range(len(now) + 1)))
+                self.assertEqual(now, other)
