@@ -1,12 +1,17 @@
 """Books of lots: what they are, what may be done, and which states they have."""
 
 from opendeeds.errors import BadBook, BadDone, BadState
-from opendeeds.kinds import is_deed_set
+from opendeeds.kinds import check_number, is_deed_set
 from opendeeds.masks import deeds_of, greatest_within, lot_masks, mask_of
 from opendeeds.masks import next_deeds, state_layers, state_masks
 
 MOST_DEEDS = 8
 MOST_LOTS = 40
+
+
+def check_count(count):
+    """Raise BadNumber for what is no number of deeds, or of places, of a book."""
+    check_number(count, 1, MOST_DEEDS)
 
 
 def is_lot(thing, deed, count):

@@ -4,7 +4,7 @@ A family has the empty set, each other set of it is one of it and one deed more,
 union of each two. Nothing is checked here.
 """
 
-from opendeeds.masks import deeds_of
+from opendeeds.masks import deeds_of, mask_of
 
 
 def ways_by_deed(count, family):
@@ -32,3 +32,12 @@ def book_of_family(count, family):
     """The least book of count deeds whose states are the family."""
     found = ways_by_deed(count, family)
     return tuple([entry_of_ways(deed, ways) for deed, ways in enumerate(found)])
+
+
+def unions_of_beginnings(runs):
+    """The family of the unions of a beginning, perhaps an empty one, of each of the runs."""
+    found = [0]
+    for run in runs:
+        beginnings = [mask_of(run[:size]) for size in range(len(run) + 1)]
+        found = sorted({state | beginning for state in found for beginning in beginnings})
+    return found

@@ -2,10 +2,10 @@
 
 from itertools import combinations
 
-from opendeeds.books import MOST_DEEDS, check_book, states
+from opendeeds.books import check_book, check_count, states
 from opendeeds.errors import BadFamily, BadSizes
 from opendeeds.families import book_of_family, ways_by_deed
-from opendeeds.kinds import check_number, is_deed_set
+from opendeeds.kinds import is_deed_set
 from opendeeds.masks import deeds_of, lot_masks, mask_of, state_masks
 from opendeeds.runs import check_reach_deed
 
@@ -72,7 +72,7 @@ def spare_lots(book):
 
 def check_family(count, family):
     """Raise BadNumber for no number of deeds, BadFamily for what is no family of so many."""
-    check_number(count, 1, MOST_DEEDS)
+    check_count(count)
     if type(family) not in (list, tuple) or len(family) > MOST_SETS:
         raise BadFamily("this is no list or tuple of so few sets")
     if not all([is_deed_set(entry, count) for entry in family]):

@@ -3,19 +3,28 @@
 import copy
 import itertools
 
-from opendeeds import errors
-from opendeeds.errors import BadBook, BadDeed, BadFamily, BadNumber, BadRun, BadSet, BadShut, BadSizes
-from opendeeds.errors import BadState
+from opendeeds.books import states
+from opendeeds.costs import best_state, late_deeds, least_late, least_sum, least_worst, met_by, worst_of
+from opendeeds.errors import BadBook, BadCosts, BadDays, BadDeed, BadFamily, BadNumber, BadPairs, BadPoints
+from opendeeds.errors import BadReach, BadRun, BadRuns, BadSet, BadShut, BadSizes, BadState, BadTree
+from opendeeds.errors import BadWeights, TooMany
 from opendeeds.least import are_alike, book_of, family_fault, least_book, spare_lots, unlike_state, ways
+from opendeeds.orders import is_order, joined, most_ways, of_runs, order_book, order_pairs
+from opendeeds.orders import runs_for, runs_make
+from opendeeds.parts import behind, beside, done_first, in_place, kept_alone
+from opendeeds.places import outer_book, outer_points, reach_book, row_book, tree_book
 from opendeeds.runs import bar_holds, bar_of, barred, count_runs, first_run, is_run, number_of
 from opendeeds.runs import reach, run_at, runs, runs_ahead, runs_through
 from opendeeds.shutting import bare_sets, brings, closure, corners, is_shut, left_by, needs, shut_sets
 from opendeeds.swaps import goes_on, least_swaps, swaps_between, swaps_hold, swaps_of
-from samples import B, NEVER, RUNS_501
-from samples import Soon, same, some_books, told_full_runs, told_runs, wrong_books
+from samples import B, FREE, NEVER, ONE, RUNS_501
+from samples import Soon, same, some_books, told_full_runs, told_runs, told_states, wrong_books
 
 SPARE = (((),), ((0,), (0, 2), (2,)), ((),))
 B_STATES = [(), (0,), (0, 1), (0, 1, 2), (0, 2), (1, 2), (2,)]
+COSTS = ((2, 1, 0), (9, 0, 0), (5, 5, 5))
+FREE_TWO = (((),), ((),))
+IN_SEQUENCE = (((),), ((0,),))
 
 # A function, its parameters with good arguments, what it returns for them, and for each parameter
 # but one for any object the error that tells of it.
@@ -68,6 +77,36 @@ CASES = [
     (spare_lots, {"book": SPARE}, [(1, (0, 2))], [BadBook]),
     (book_of, {"count": 3, "family": B_STATES}, B, [BadNumber, BadFamily]),
     (family_fault, {"count": 3, "family": [(), (0,), (1,)]}, ("union", (0,), (1,)), [BadNumber, BadFamily]),
+    (worst_of, {"book": B, "costs": COSTS, "run": (0, 1, 2)}, 5, [BadBook, BadCosts, BadRun]),
+    (least_worst, {"book": B, "costs": COSTS}, (5, (0, 1, 2)), [BadBook, BadCosts]),
+    (met_by, {"book": B, "days": (3, 2, 1)}, (2, 1, 0), [BadBook, BadDays]),
+    (late_deeds, {"book": B, "days": (3, 1, 1), "run": (0, 1, 2)}, (1, 2), [BadBook, BadDays, BadRun]),
+    (least_late, {"book": B, "days": (3, 1, 3)}, 1, [BadBook, BadDays]),
+    (least_sum, {"book": B, "weights": (4, 0, 1)}, (1, (0, 2, 1)), [BadBook, BadWeights]),
+    (best_state, {"book": B, "weights": (-2, 5, -1)}, (4, (1, 2)), [BadBook, BadWeights]),
+    (order_book, {"count": 2, "pairs": ((0, 1),)}, IN_SEQUENCE, [BadNumber, BadPairs]),
+    (is_order, {"book": B}, False, [BadBook]),
+    (order_pairs, {"book": IN_SEQUENCE}, [(0, 1)], [BadBook]),
+    (of_runs, {"count": 3, "runs": ((0, 1, 2), (2, 1, 0))}, B, [BadNumber, BadRuns]),
+    (joined, {"book": IN_SEQUENCE, "other": (((1,),), ((),))}, FREE_TWO, [BadBook, BadBook]),
+    (most_ways, {"book": B}, (2, ((0,), (1, 2))), [BadBook]),
+    (runs_for, {"book": IN_SEQUENCE}, ((0, 1),), [BadBook]),
+    (runs_make, {"book": B, "thing": ((0, 1, 2), (2, 1, 0))}, True, [BadBook]),
+    (done_first, {"book": B, "state": (0, 2)}, ((((),),), (1,)), [BadBook, BadState]),
+    (kept_alone, {"book": B, "deeds": (0, 1)}, IN_SEQUENCE, [BadBook, BadSet]),
+    (beside, {"book": IN_SEQUENCE, "other": ONE}, (((),), ((0,),), ()), [BadBook, BadBook]),
+    (behind, {"book": FREE_TWO, "other": (((),),)}, (((),), ((),), ((0, 1),)), [BadBook, BadBook]),
+    (
+        in_place,
+        {"book": IN_SEQUENCE, "deed": 0, "other": FREE_TWO},
+        (((1, 2),), ((),), ((),)),
+        [BadBook, BadDeed, BadBook],
+    ),
+    (row_book, {"count": 3}, B, [BadNumber]),
+    (tree_book, {"count": 3, "pairs": ((0, 1), (1, 2))}, B, [BadNumber, BadTree]),
+    (reach_book, {"count": 2, "pairs": ((1, 0),), "place": 0}, IN_SEQUENCE, [BadNumber, BadPairs, BadDeed]),
+    (outer_book, {"points": ((0, 0), (1, 1), (2, 2))}, B, [BadPoints]),
+    (outer_points, {"points": ((0, 0), (1, 1), (2, 2)), "left": (0, 1)}, [0, 1], [BadPoints, BadSet]),
 ]
 
 # What is none of the things that any parameter takes.
@@ -133,7 +172,7 @@ class Errors(Soon):
                     self.refuses(BadBook, function, thing, *[None] * (len(told) - 1))
 
     def test_a_wrong_book_in_second_place(self):
-        for function in (are_alike, unlike_state):
+        for function in (are_alike, unlike_state, joined, beside, behind):
             for thing in wrong_books():
                 self.refuses(BadBook, function, B, thing)
 
@@ -156,12 +195,31 @@ class Errors(Soon):
         self.refuses(BadSizes, are_alike, B, ((),))
         self.refuses(BadNumber, book_of, 0, None)
         self.refuses(BadNumber, family_fault, 9, None)
+        self.refuses(BadCosts, worst_of, B, ((0, 0, 1), (0, 0, 0), (0, 0, 0)), None)
+        self.refuses(BadCosts, worst_of, B, ((0, 0),) * 3, (0, 1))
+        self.refuses(BadDays, late_deeds, B, (1, 2, 9), None)
+        self.refuses(BadReach, joined, NEVER, None)
+        self.refuses(BadReach, joined, NEVER, ONE)
+        self.refuses(BadSizes, joined, B, ONE)
+        self.refuses(BadReach, runs_make, NEVER, None)
+        self.refuses(BadDeed, in_place, B, 3, None)
+        self.refuses(BadPairs, reach_book, 3, ((0, 0),), None)
+        self.refuses(BadPoints, outer_points, ((0, 0), (0, 0)), None)
+        for function in (order_book, of_runs, tree_book):
+            self.refuses(BadNumber, function, 0, None)
+            self.refuses(BadNumber, function, 9, None)
 
     def test_too_many_comes_behind_all_others(self):
         self.refuses(BadRun, least_swaps, RUNS_501, None, None)
         self.refuses(BadRun, least_swaps, RUNS_501, first_run(RUNS_501), ())
-        self.refuses(errors.TooMany, least_swaps, RUNS_501, first_run(RUNS_501), first_run(RUNS_501))
-        self.refuses(errors.TooMany, runs, RUNS_501)
+        self.refuses(TooMany, least_swaps, RUNS_501, first_run(RUNS_501), first_run(RUNS_501))
+        self.refuses(TooMany, runs, RUNS_501)
+        for function in (beside, behind):
+            self.refuses(BadBook, function, FREE, None)
+            self.refuses(TooMany, function, FREE, ONE)
+        self.refuses(BadDeed, in_place, FREE, 8, FREE)
+        self.refuses(BadBook, in_place, FREE, 0, None)
+        self.refuses(TooMany, in_place, FREE, 0, FREE_TWO)
 
 
 class MainProperty(Soon):
@@ -178,3 +236,42 @@ class MainProperty(Soon):
                     now = (*now[:index], now[index + 1], now[index], *now[index + 2 :])
                     self.assertTrue(all(now[:size] in beginnings for size in range(len(now) + 1)))
                 self.assertEqual(now, other)
+
+    def test_what_can_be_done_together_is_closed_under_union(self):
+        for book in some_books(4):
+            told = set(states(book))
+            for state, other in itertools.combinations(sorted(told), 2):
+                self.assertIn(tuple(sorted({*state, *other})), told)
+
+    def test_shut_sets_are_told_by_their_corners_alone(self):
+        for book in some_books(4):
+            told = {corners(book, shut): shut for shut in shut_sets(book)}
+            self.assertEqual(len(told), len(shut_sets(book)))
+            for found, shut in told.items():
+                self.assertEqual(closure(book, found), shut)
+
+    def test_no_two_deeds_bring_each_other_in(self):
+        for book in some_books(4):
+            for shut in shut_sets(book):
+                left = [deed for deed in reach(book) if deed not in shut]
+                for deed, other in itertools.combinations(left, 2):
+                    first = brings(book, tuple(sorted((*shut, deed))), other)
+                    self.assertFalse(first and brings(book, tuple(sorted((*shut, other))), deed))
+
+    def test_the_cheapest_deed_each_time_gives_the_least_worst(self):
+        for book in some_books(4):
+            indexes = range(len(reach(book)))
+            costs = [[(deed * 5 + 3) % 7 - deed * index for index in indexes] for deed in range(len(book))]
+            costs = tuple(tuple(entry) for entry in costs)
+            worst, run = least_worst(book, costs)
+            self.assertEqual(worst, worst_of(book, costs, run))
+            self.assertEqual(worst, min(worst_of(book, costs, other) for other in runs(book)))
+
+    def test_the_fewest_runs_are_as_many_as_the_most_ways_apart(self):
+        for book in some_books(4):
+            if len(reach(book)) == len(book):
+                number, found = most_ways(book)
+                self.assertEqual((len(found), len(runs_for(book))), (number, number))
+                beginnings = [{run[:size] for size in range(len(book) + 1)} for run in runs_for(book)]
+                unions = {tuple(sorted(set().union(*chosen))) for chosen in itertools.product(*beginnings)}
+                self.assertEqual(sorted(unions), told_states(book))

@@ -5,7 +5,7 @@ import inspect
 import pathlib
 import unittest
 
-from opendeeds import books, least, runs, shutting, swaps, texts
+from opendeeds import books, costs, least, orders, parts, places, runs, shutting, swaps, texts
 
 FUNCTIONS = {
     books: {
@@ -55,6 +55,39 @@ FUNCTIONS = {
         "spare_lots": ["book"],
         "book_of": ["count", "family"],
         "family_fault": ["count", "family"],
+    },
+    costs: {
+        "worst_of": ["book", "costs", "run"],
+        "least_worst": ["book", "costs"],
+        "met_by": ["book", "days"],
+        "late_deeds": ["book", "days", "run"],
+        "least_late": ["book", "days"],
+        "least_sum": ["book", "weights"],
+        "best_state": ["book", "weights"],
+    },
+    orders: {
+        "order_book": ["count", "pairs"],
+        "is_order": ["book"],
+        "order_pairs": ["book"],
+        "of_runs": ["count", "runs"],
+        "joined": ["book", "other"],
+        "most_ways": ["book"],
+        "runs_for": ["book"],
+        "runs_make": ["book", "thing"],
+    },
+    parts: {
+        "done_first": ["book", "state"],
+        "kept_alone": ["book", "deeds"],
+        "beside": ["book", "other"],
+        "behind": ["book", "other"],
+        "in_place": ["book", "deed", "other"],
+    },
+    places: {
+        "row_book": ["count"],
+        "tree_book": ["count", "pairs"],
+        "reach_book": ["count", "pairs", "place"],
+        "outer_book": ["points"],
+        "outer_points": ["points", "left"],
     },
 }
 
