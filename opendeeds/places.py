@@ -5,7 +5,7 @@ from opendeeds.errors import BadDeed, BadPoints, BadSet, BadTree
 from opendeeds.families import book_of_family
 from opendeeds.kinds import are_pairs, check_pairs, is_deed_set, is_integer
 from opendeeds.least import least_book
-from opendeeds.masks import deeds_of, greatest_state, lot_masks, mask_of
+from opendeeds.masks import deeds_of, greatest_state, lot_masks
 
 MOST_POINTS = 7
 FARTHEST = 1000

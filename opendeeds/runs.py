@@ -23,6 +23,12 @@ def is_run(book, thing):
     return True
 
 
+def check_run(book, run):
+    """Raise BadRun for what is no run of the book."""
+    if not is_run(book, run):
+        raise BadRun("this is no run of the book")
+
+
 def check_full_run(book, run):
     """Raise BadRun for what is no run of the book, and for a run that is not full."""
     if not is_run(book, run) or next_deeds(lot_masks(book), mask_of(run)):
@@ -51,6 +57,14 @@ def check_reach_deed(book, deed):
     """Raise BadDeed for what is no deed of reach."""
     if not is_integer(deed) or deed not in reach(book):
         raise BadDeed("this is no deed of reach")
+
+
+def check_two_deeds(book, deed, other):
+    """Raise BadDeed for what are no two unlike deeds of reach."""
+    check_reach_deed(book, deed)
+    check_reach_deed(book, other)
+    if other == deed:
+        raise BadDeed("the two deeds are one")
 
 
 def bar_of(book, deed):
@@ -142,10 +156,7 @@ def runs_through(book, state):
 def runs_ahead(book, deed, other):
     """How many full runs have a deed of reach ahead of another one."""
     check_book(book)
-    check_reach_deed(book, deed)
-    check_reach_deed(book, other)
-    if other == deed:
-        raise BadDeed("the two deeds are one")
+    check_two_deeds(book, deed, other)
     masks = lot_masks(book)
     to = counts_to(masks)
     on = counts_on(masks)

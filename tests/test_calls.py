@@ -3,11 +3,14 @@
 import copy
 import itertools
 
-from opendeeds.books import states
+from opendeeds.books import is_book, is_state, may, state_counts, states
+from opendeeds.chance import ahead_chance, mean_place, run_chance, state_chances
 from opendeeds.costs import best_state, late_deeds, least_late, least_sum, least_worst, met_by, worst_of
-from opendeeds.errors import BadBook, BadCosts, BadDays, BadDeed, BadFamily, BadNumber, BadPairs, BadPoints
-from opendeeds.errors import BadReach, BadRun, BadRuns, BadSet, BadShut, BadSizes, BadState, BadTree
-from opendeeds.errors import BadWeights, TooMany
+from opendeeds.desk import Desk
+from opendeeds.errors import BadBook, BadCommand, BadCosts, BadDays, BadDeed, BadDone, BadFamily, BadLot
+from opendeeds.errors import BadNumber, BadPairs, BadPoints, BadReach, BadRefused, BadRows, BadRun, BadRuns
+from opendeeds.errors import BadSeen, BadSet, BadShut, BadSizes, BadState, BadTree, BadWeights
+from opendeeds.errors import DeedError, NotOrder, TooMany
 from opendeeds.least import are_alike, book_of, family_fault, least_book, spare_lots, unlike_state, ways
 from opendeeds.orders import is_order, joined, most_ways, of_runs, order_book, order_pairs
 from opendeeds.orders import runs_for, runs_make
@@ -15,10 +18,14 @@ from opendeeds.parts import behind, beside, done_first, in_place, kept_alone
 from opendeeds.places import outer_book, outer_points, reach_book, row_book, tree_book
 from opendeeds.runs import bar_holds, bar_of, barred, count_runs, first_run, is_run, number_of
 from opendeeds.runs import reach, run_at, runs, runs_ahead, runs_through
+from opendeeds.seen import can_refuse, least_seen, sure_next
+from opendeeds.session import Session
 from opendeeds.shutting import bare_sets, brings, closure, corners, is_shut, left_by, needs, shut_sets
 from opendeeds.swaps import goes_on, least_swaps, swaps_between, swaps_hold, swaps_of
+from opendeeds.texts import read_book, write_book
 from samples import B, FREE, NEVER, ONE, RUNS_501
-from samples import Soon, same, some_books, told_full_runs, told_runs, told_states, wrong_books
+from samples import Soon, any_objects, same, some_books, told_full_runs, told_runs, told_states
+from samples import wrong_books
 
 SPARE = (((),), ((0,), (0, 2), (2,)), ((),))
 B_STATES = [(), (0,), (0, 1), (0, 1, 2), (0, 2), (1, 2), (2,)]
@@ -29,6 +36,13 @@ IN_SEQUENCE = (((),), ((0,),))
 # A function, its parameters with good arguments, what it returns for them, and for each parameter
 # but one for any object the error that tells of it.
 CASES = [
+    (is_book, {"thing": B}, True, []),
+    (may, {"book": B, "done": (0,)}, [1, 2], [BadBook, BadDone]),
+    (is_state, {"book": B, "thing": (0, 1)}, True, [BadBook]),
+    (states, {"book": B}, B_STATES, [BadBook]),
+    (state_counts, {"book": B}, [1, 2, 3, 1], [BadBook]),
+    (write_book, {"book": B}, "0: -\n1: 0 / 2\n2: -", [BadBook]),
+    (read_book, {"text": "0: -\n1: 0 / 2\n2: -"}, B, [BadRows]),
     (is_run, {"book": B, "thing": (2, 1)}, True, [BadBook]),
     (reach, {"book": NEVER}, (2,), [BadBook]),
     (barred, {"book": NEVER}, (0, 1), [BadBook]),
@@ -107,6 +121,28 @@ CASES = [
     (reach_book, {"count": 2, "pairs": ((1, 0),), "place": 0}, IN_SEQUENCE, [BadNumber, BadPairs, BadDeed]),
     (outer_book, {"points": ((0, 0), (1, 1), (2, 2))}, B, [BadPoints]),
     (outer_points, {"points": ((0, 0), (1, 1), (2, 2)), "left": (0, 1)}, [0, 1], [BadPoints, BadSet]),
+    (run_chance, {"book": B, "run": (0, 1)}, (1, 4), [BadBook, BadRun]),
+    (
+        state_chances,
+        {"book": B, "count": 1},
+        [((0,), (1, 2)), ((2,), (1, 2))],
+        [BadBook, BadNumber],
+    ),
+    (ahead_chance, {"book": B, "deed": 0, "other": 1}, (3, 4), [BadBook, BadDeed, BadDeed]),
+    (mean_place, {"book": B, "deed": 1}, (3, 2), [BadBook, BadDeed]),
+    (least_seen, {"count": 3, "seen": ((0, 1), (2, 1))}, B, [BadNumber, BadSeen]),
+    (
+        can_refuse,
+        {"count": 3, "seen": ((0, 1), (2,)), "refused": (((2,), 1),)},
+        True,
+        [BadNumber, BadSeen, BadRefused],
+    ),
+    (
+        sure_next,
+        {"count": 3, "seen": ((0, 1), (2, 1)), "done": (0,)},
+        [1, 2],
+        [BadNumber, BadSeen, BadDone],
+    ),
 ]
 
 # What is none of the things that any parameter takes.
@@ -166,7 +202,7 @@ class Calls(Soon):
 class Errors(Soon):
     def test_a_wrong_book_ahead_of_all(self):
         for function, told, _, named in CASES:
-            if named[0] is BadBook:
+            if BadBook in named[:1]:
                 for thing in wrong_books():
                     self.refuses(BadBook, function, thing, *list(told.values())[1:])
                     self.refuses(BadBook, function, thing, *[None] * (len(told) - 1))
@@ -185,6 +221,16 @@ class Errors(Soon):
                     for other in WRONG:
                         behind = [other] * (len(right) - at - 1)
                         self.refuses(error, function, *right[:at], thing, *behind)
+
+    def test_any_object_in_each_place(self):
+        for function, told, _, named in CASES:
+            right = list(told.values())
+            for at in range(len(right)):
+                for thing in any_objects():
+                    try:
+                        function(*right[:at], thing, *right[at + 1 :])
+                    except DeedError as error:
+                        self.assertIn(type(error), [*named[at:], BadSizes, BadReach, NotOrder, TooMany])
 
     def test_what_more_is_wanted_of_the_first_counts_ahead_of_the_second(self):
         self.refuses(BadRun, swaps_between, B, (0, 1), None)
@@ -205,7 +251,10 @@ class Errors(Soon):
         self.refuses(BadDeed, in_place, B, 3, None)
         self.refuses(BadPairs, reach_book, 3, ((0, 0),), None)
         self.refuses(BadPoints, outer_points, ((0, 0), (0, 0)), None)
-        for function in (order_book, of_runs, tree_book):
+        self.refuses(BadDeed, ahead_chance, NEVER, 0, None)
+        self.refuses(BadSeen, can_refuse, 3, ((0, 0),), None)
+        self.refuses(BadSeen, sure_next, 3, ((),) * 31, None)
+        for function in (order_book, of_runs, tree_book, least_seen):
             self.refuses(BadNumber, function, 0, None)
             self.refuses(BadNumber, function, 9, None)
 
@@ -220,6 +269,39 @@ class Errors(Soon):
         self.refuses(BadDeed, in_place, FREE, 8, FREE)
         self.refuses(BadBook, in_place, FREE, 0, None)
         self.refuses(TooMany, in_place, FREE, 0, FREE_TWO)
+
+
+class Classes(Soon):
+    def test_by_position_and_by_name(self):
+        for session in (Session(B), Session(book=B)):
+            self.gives(None, session.do, 0)
+            self.assertIsNone(session.do(deed=1))
+            self.gives(None, session.add_lot, 2, (1,))
+            self.assertIsNone(session.add_lot(lot=(0,), deed=2))
+            self.gives(None, session.drop_lot, 2, (1,))
+            self.assertIsNone(session.drop_lot(lot=(0,), deed=2))
+            self.assertTrue(same([session.book(), session.run()], [B, (0, 1)]))
+        desk = Desk()
+        self.gives("0 2", desk.say, "may")
+        self.assertEqual(desk.say(row="may"), "0 2")
+
+    def test_the_first_wrong_argument(self):
+        session = Session(B)
+        for thing in WRONG:
+            self.refuses(BadBook, Session, thing)
+            self.refuses(BadDeed, session.do, thing)
+            for call in (session.add_lot, session.drop_lot):
+                self.refuses(BadLot, call, 1, thing)
+                self.refuses(BadDeed, call, thing, (0,))
+                for other in WRONG:
+                    self.refuses(BadDeed, call, thing, other)
+            self.refuses(BadCommand, Desk().say, thing)
+
+    def test_lists_that_are_returned_are_new(self):
+        session = Session(B)
+        found = session.may()
+        found.append(found)
+        self.gives([0, 2], session.may)
 
 
 class MainProperty(Soon):

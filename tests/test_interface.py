@@ -5,7 +5,8 @@ import inspect
 import pathlib
 import unittest
 
-from opendeeds import books, costs, least, orders, parts, places, runs, shutting, swaps, texts
+from opendeeds import books, chance, costs, desk, least, orders, parts, places, runs, seen
+from opendeeds import session, shutting, swaps, texts
 
 FUNCTIONS = {
     books: {
@@ -89,6 +90,37 @@ FUNCTIONS = {
         "outer_book": ["points"],
         "outer_points": ["points", "left"],
     },
+    chance: {
+        "run_chance": ["book", "run"],
+        "state_chances": ["book", "count"],
+        "ahead_chance": ["book", "deed", "other"],
+        "mean_place": ["book", "deed"],
+    },
+    seen: {
+        "least_seen": ["count", "seen"],
+        "can_refuse": ["count", "seen", "refused"],
+        "sure_next": ["count", "seen", "done"],
+    },
+}
+
+# Each method has the object itself ahead of these parameters.
+CLASSES = {
+    session.Session: {
+        "__init__": ["book"],
+        "do": ["deed"],
+        "add_lot": ["deed", "lot"],
+        "drop_lot": ["deed", "lot"],
+        "undo": [],
+        "book": [],
+        "run": [],
+        "may": [],
+        "left": [],
+        "ways_on": [],
+        "__len__": [],
+        "__eq__": ["other"],
+        "copy": [],
+    },
+    desk.Desk: {"__init__": [], "say": ["row"], "session": []},
 }
 
 # The modules of Python itself of which the language lets some names be imported.
@@ -111,6 +143,20 @@ class Interface(unittest.TestCase):
                     self.assertTrue(inspect.isfunction(function))
                     self.assertEqual(function.__module__, module.__name__)
                     self.assertEqual(list(inspect.signature(function).parameters), parameters)
+
+
+    def test_classes_and_their_methods(self):
+        for made, methods in CLASSES.items():
+            for name, parameters in methods.items():
+                with self.subTest(f"{made.__name__}.{name}"):
+                    self.assertIn(name, vars(made))
+                    method = vars(made)[name]
+                    self.assertTrue(inspect.isfunction(method))
+                    self.assertEqual(list(inspect.signature(method).parameters)[1:], parameters)
+
+    def test_classes_stand_in_their_files(self):
+        for made, module in ((session.Session, session), (desk.Desk, desk)):
+            self.assertEqual(made.__module__, module.__name__)
 
 
 class Form(unittest.TestCase):

@@ -7,7 +7,6 @@ from opendeeds.books import is_book, states
 from opendeeds.errors import BadDeed, BadFamily, BadNumber, BadSizes
 from opendeeds.least import are_alike, book_of, family_fault, least_book, spare_lots
 from opendeeds.least import unlike_state, ways
-from opendeeds.runs import reach
 from samples import B, CHAIN, EACH_OTHER, FORTY, FORTY_LAST, FREE, HALF_BARRED, NEVER, NO_LOTS, ONE
 from samples import THREE_OF_SEVEN
 from samples import Soon, all_books, any_objects, is_one_of, random_book, some_books, subsets

@@ -1,6 +1,5 @@
 """Promises [18], [19] and [20]: parts of books, and books made of others."""
 
-import itertools
 import math
 import random
 
